@@ -74,3 +74,27 @@ def _choices(shape, kind, deed):
     if kind == "other":
         return [branch for branch in shape.branches if branch != deed[1]]
     return list(shape.branches)
+
+
+def makes_version(deed):
+    """Whether a deed makes a version on its branch."""
+    return deed[0] not in ("hear", "mean")
+
+
+def heard_branch(deed):
+    """The branch that the branch of a deed hears, or None."""
+    if deed[0] in ("pick", "merge", "squash", "hear"):
+        return deed[2]
+    return None
+
+
+def said_word(deed, contents):
+    """The word that a deed says, or None; the contents are those of its branch behind it."""
+    word = deed[0]
+    if word == "mean":
+        return deed[2]
+    if word in ("make", "restore", "pick"):
+        return "in"
+    if word == "drop":
+        return "in" if contents else "out"
+    return None

@@ -5,7 +5,7 @@ import os
 import unittest
 
 import stillmeant
-from stillmeant import deeds, errors, shapes, webs
+from stillmeant import conditions, deeds, errors, moments, policies, shapes, stores, webs
 
 FOLDER = os.path.dirname(stillmeant.__file__)
 
@@ -14,7 +14,17 @@ INTERFACE = {
                "__eq__", "__len__", "__repr__"],
     shapes.Shape: ["PLAIN", "BASES", "branches", "places", "table", "bases", "timed", "text", "index", "merged",
                    "changed", "read", "__eq__", "__repr__"],
+    conditions.Condition: ["MOST", "text", "tree", "parts", "telling", "holding", "all_of", "any_of", "__and__",
+                           "__or__", "__invert__", "branch_names", "holds", "__eq__", "__repr__"],
+    moments.Moment: ["shape", "key", "contents", "meaning", "told", "stood", "holds", "bases_of", "refusal", "after",
+                     "deeds", "__eq__", "__repr__"],
+    stores.Store: ["shape", "moment", "do", "undo", "log", "versions", "past", "words", "heard", "told", "contents",
+                   "meaning", "walk", "twin", "__len__", "__eq__", "__repr__"],
+    policies.Policy: ["MOST", "shape", "text", "lines", "possible", "after", "played", "without", "read", "__eq__",
+                      "__len__", "__repr__"],
 }
+CLASSES = {webs.Web: webs, shapes.Shape: shapes, conditions.Condition: conditions, moments.Moment: moments,
+           stores.Store: stores, policies.Policy: policies, errors.StillError: errors}
 FUNCTIONS = {shapes: ["is_name"], deeds: ["is_deed", "deed_text", "read_deed", "all_deeds"]}
 
 
@@ -74,7 +84,7 @@ class Interface(unittest.TestCase):
         for module, names in FUNCTIONS.items():
             for name in names:
                 self.assertEqual(getattr(module, name).__module__, module.__name__)
-        for owner, module in [(webs.Web, webs), (shapes.Shape, shapes), (errors.StillError, errors)]:
+        for owner, module in CLASSES.items():
             self.assertEqual(owner.__module__, module.__name__)
 
 
