@@ -5,7 +5,8 @@ import os
 import unittest
 
 import stillmeant
-from stillmeant import conditions, deeds, errors, moments, policies, shapes, stores, webs
+from stillmeant import blames, conditions, deeds, errors, mendings, moments, nets, papers, policies, shapes, stores
+from stillmeant import webs
 
 FOLDER = os.path.dirname(stillmeant.__file__)
 
@@ -22,10 +23,22 @@ INTERFACE = {
                    "meaning", "walk", "twin", "__len__", "__eq__", "__repr__"],
     policies.Policy: ["MOST", "shape", "text", "lines", "possible", "after", "played", "without", "read", "__eq__",
                       "__len__", "__repr__"],
+    nets.Net: ["MOST", "policy", "moments", "ways", "way", "idle", "__contains__", "__len__", "__repr__"],
+    papers.Verdict: ["WORD", "condition", "holds", "__repr__"],
+    papers.Never: ["WORD", "moments", "holds", "__repr__"],
+    papers.Ever: ["WORD", "history", "holds", "__repr__"],
+    mendings.Mending: ["need", "plan", "worst", "hopeless", "why"],
+    mendings.Cure: ["rows", "holds"],
+    mendings.Trap: ["moments", "holds"],
 }
 CLASSES = {webs.Web: webs, shapes.Shape: shapes, conditions.Condition: conditions, moments.Moment: moments,
-           stores.Store: stores, policies.Policy: policies, errors.StillError: errors}
-FUNCTIONS = {shapes: ["is_name"], deeds: ["is_deed", "deed_text", "read_deed", "all_deeds"]}
+           stores.Store: stores, policies.Policy: policies, errors.StillError: errors, nets.Net: nets,
+           papers.Verdict: papers, papers.Never: papers, papers.Ever: papers, mendings.Mending: mendings,
+           mendings.Cure: mendings, mendings.Trap: mendings}
+FUNCTIONS = {shapes: ["is_name"], deeds: ["is_deed", "deed_text", "read_deed", "all_deeds"], papers: ["judged"],
+             mendings: ["all_right"], blames: ["blamed"]}
+# What may be imported from outside the package.
+LIBRARY = {"itertools": ["combinations"]}
 
 
 def files():
@@ -69,9 +82,10 @@ class Files(unittest.TestCase):
                 self.assertNotIsInstance(node, ast.Import, name)
                 if isinstance(node, ast.ImportFrom):
                     self.assertEqual(node.level, 0, name)
-                    self.assertTrue(node.module.startswith("stillmeant."), name)
                     for alias in node.names:
                         self.assertIsNone(alias.asname, name)
+                        inside = node.module.startswith("stillmeant.")
+                        self.assertTrue(inside or alias.name in LIBRARY.get(node.module, []), (name, alias.name))
 
 
 class Interface(unittest.TestCase):
