@@ -5,8 +5,8 @@ import os
 import unittest
 
 import stillmeant
-from stillmeant import blames, conditions, deeds, errors, mendings, moments, nets, papers, policies, shapes, stores
-from stillmeant import webs
+from stillmeant import (alikes, archives, blames, conditions, deeds, desks, errors, mendings, moments, nets, pages,
+                        papers, policies, shapes, stores, webs)
 
 FOLDER = os.path.dirname(stillmeant.__file__)
 
@@ -30,13 +30,18 @@ INTERFACE = {
     mendings.Mending: ["need", "plan", "worst", "hopeless", "why"],
     mendings.Cure: ["rows", "holds"],
     mendings.Trap: ["moments", "holds"],
+    archives.Archive: ["CHANGES", "MOST", "shape", "run", "do", "undo", "redo", "history", "busy", "changes", "store",
+                       "told", "contents", "meaning", "commands", "bad", "__contains__", "__len__", "__eq__",
+                       "__repr__", "twin"],
+    desks.Desk: ["archive", "say", "__call__", "log", "__len__", "__repr__"],
 }
 CLASSES = {webs.Web: webs, shapes.Shape: shapes, conditions.Condition: conditions, moments.Moment: moments,
            stores.Store: stores, policies.Policy: policies, errors.StillError: errors, nets.Net: nets,
            papers.Verdict: papers, papers.Never: papers, papers.Ever: papers, mendings.Mending: mendings,
-           mendings.Cure: mendings, mendings.Trap: mendings}
+           mendings.Cure: mendings, mendings.Trap: mendings, archives.Archive: archives, desks.Desk: desks}
 FUNCTIONS = {shapes: ["is_name"], deeds: ["is_deed", "deed_text", "read_deed", "all_deeds"], papers: ["judged"],
-             mendings: ["all_right"], blames: ["blamed"]}
+             mendings: ["all_right"], blames: ["blamed"], alikes: ["parting", "is_alike"],
+             pages: ["command_text", "read_command", "page_text", "read_page"]}
 # What may be imported from outside the package.
 LIBRARY = {"itertools": ["combinations"]}
 

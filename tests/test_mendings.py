@@ -139,6 +139,16 @@ class Needs(unittest.TestCase):
         self.assertEqual(mending.need(Moment(policy.shape)), 0)
         self.assertEqual(mending.plan(Moment(policy.shape)), [])
 
+    def test_a_net_of_one_moment(self):
+        policy = known.read("shape main dev 1 1100 any", "hear main dev if true")
+        repair = known.read("shape main dev 1 1100 any", "pass dev if true", "make dev 0 if main holds dev")
+        mending = Mending(Net(policy), repair, goal=Condition("dev in"))
+        first = Moment(policy.shape)
+        self.assertEqual((mending.plan(first), mending.worst(), mending.hopeless()), ([1], 1, []))
+        self.assertIsNone(mending.plan(first.after(("pass", "dev"))))
+        with self.assertRaises(UnknownBranch):
+            Mending(Net(policy), repair, goal=Condition("zap in"))
+
     def test_goals_that_are_always_and_never_true(self):
         net = Net(known.FLOW)
         always = Mending(net, known.FLOW, goal=TRUE)
